@@ -2,6 +2,7 @@ package tests
 
 import (
 	"bytes"
+	"slices"
 	"strings"
 )
 
@@ -27,15 +28,15 @@ func filled(size int, with byte) []byte {
 	return bytes.Repeat([]byte{with}, size)
 }
 
-// withSpare returns a copy of data in front of bytes that belong to its capacity alone.
-func withSpare(data []byte, spare byte) []byte {
-	whole := append(bytes.Clone(data), filled(40, spare)...)
-	return whole[:len(data):len(whole)]
+// withSpare returns a copy of a list in front of elements that belong to its capacity alone.
+func withSpare[T any](list []T, spare T) []T {
+	whole := append(slices.Clone(list), slices.Repeat([]T{spare}, 40)...)
+	return whole[:len(list):len(whole)]
 }
 
-// whole returns a copy of data and of all its capacity.
-func whole(data []byte) []byte {
-	return bytes.Clone(data[:cap(data)])
+// whole returns a copy of a list and of all its capacity.
+func whole[T any](list []T) []T {
+	return slices.Clone(list[:cap(list)])
 }
 
 // sampleBytes are lists of bytes, the last one of which is too long.

@@ -1,20 +1,13 @@
 package tests
 
 import (
-	"bytes"
-	"reflect"
+	"fmt"
 	"testing"
 
 	"loop.example/g00838/impl"
 )
 
 // Promise 33: every function accepts all arguments without panicking and modifies none of them.
-
-// answer is what a call returned: its results but the last one, and this one.
-type answer struct {
-	results []any
-	ok      bool
-}
 
 // scanCall is a call of a function of chapter 1, which uses those of the arguments that the function has.
 type scanCall struct {
@@ -75,66 +68,13 @@ func scanCalls() []scanCall {
 	}
 }
 
-// isZero reports whether a result is the zero value of its type, or an empty slice, which is the same value as nil.
-func isZero(result any) bool {
-	v := reflect.ValueOf(result)
-	return v.IsZero() || v.Kind() == reflect.Slice && v.Len() == 0
-}
-
-func (a answer) equals(b answer) bool {
-	for i := range a.results {
-		if l, is := a.results[i].([]byte); is {
-			if !bytes.Equal(l, b.results[i].([]byte)) {
-				return false
-			}
-		} else if a.results[i] != b.results[i] {
-			return false
-		}
-	}
-	return a.ok == b.ok
-}
-
-// scribble changes all bytes of the results, up to their capacity.
-func (a answer) scribble() {
-	for _, result := range a.results {
-		if l, is := result.([]byte); is {
-			for i := range l[:cap(l)] {
-				l[:cap(l)][i] ^= 0x5a
-			}
-		}
-	}
-}
-
 func (c scanCall) check(t *testing.T, data []byte, s string, a, b int) {
 	t.Helper()
-	defer func() {
-		if fault := recover(); fault != nil {
-			t.Fatalf("%s panics: %v; %d bytes, %.40q, %d, %d", c.name, fault, len(data), s, a, b)
-		}
-	}()
-	first := withSpare(data, 0)
-	before := whole(first)
-	got := c.call(first, s, a, b)
-	if !bytes.Equal(whole(first), before) {
-		t.Fatalf("%s changes its argument: %d bytes, %d, %d", c.name, len(data), a, b)
-	}
-	for _, result := range got.results {
-		if !got.ok && !isZero(result) {
-			t.Fatalf("%s fails with %v; %d bytes, %.40q, %d, %d", c.name, result, len(data), s, a, b)
-		}
-	}
-	again := c.call(withSpare(data, 255), s, a, b)
-	if !again.equals(got) {
-		t.Fatalf("%s depends on more than its arguments: %v, %v; %d bytes, %.40q, %d, %d", c.name, got, again, len(data), s, a, b)
-	}
-	again.scribble()
-	if third := c.call(first, s, a, b); !third.equals(got) {
-		t.Fatalf("%s returns memory that it uses again; %d bytes, %.40q, %d, %d", c.name, len(data), s, a, b)
-	}
-	got.scribble()
-	if !bytes.Equal(whole(first), before) {
-		t.Fatalf("%s returns memory of its argument: %d bytes, %d, %d", c.name, len(data), a, b)
-	}
+	checkTotal(t, func() string {
+		return fmt.Sprintf("%s of %d bytes, %.40q, %d, %d", c.name, len(data), s, a, b)
+	}, data, 0, 255, func(data []byte) answer {
+		return c.call(data, s, a, b)
+	})
 }
 
 func TestPromise33OfBytes(t *testing.T) {
