@@ -27,33 +27,48 @@ func (a answer) equals(b answer) bool {
 	return a.ok == b.ok
 }
 
+// listsIn calls a function with each result that is a list, and its index.
+func (a answer) listsIn(use func(i int, list reflect.Value)) {
+	for i, result := range a.results {
+		if v := reflect.ValueOf(result); v.Kind() == reflect.Slice {
+			use(i, v)
+		}
+	}
+}
+
 // kept returns the answer with copies of its lists.
 func (a answer) kept() answer {
 	results := slices.Clone(a.results)
-	for i, result := range results {
-		switch l := result.(type) {
-		case []byte:
-			results[i] = slices.Clone(l)
-		case []string:
-			results[i] = slices.Clone(l)
-		}
-	}
+	a.listsIn(func(i int, list reflect.Value) {
+		results[i] = reflect.AppendSlice(reflect.MakeSlice(list.Type(), 0, list.Len()), list).Interface()
+	})
 	return answer{results, a.ok}
 }
 
 // scribble changes all elements of the results, up to their capacity.
 func (a answer) scribble() {
-	for _, result := range a.results {
-		switch l := result.(type) {
-		case []byte:
-			for i := range l[:cap(l)] {
-				l[:cap(l)][i] ^= 0x5a
-			}
-		case []string:
-			for i := range l[:cap(l)] {
-				l[:cap(l)][i] += "scribble"
-			}
+	a.listsIn(func(_ int, list reflect.Value) {
+		for i := range list.Cap() {
+			scribbleOn(list.Slice(0, list.Cap()).Index(i))
 		}
+	})
+}
+
+// scribbleOn changes an element of a list.
+func scribbleOn(v reflect.Value) {
+	switch v.Kind() {
+	case reflect.Uint8:
+		v.SetUint(v.Uint() ^ 0x5a)
+	case reflect.Int:
+		v.SetInt(v.Int() ^ 0x5a)
+	case reflect.String:
+		v.SetString(v.String() + "scribble")
+	case reflect.Struct:
+		for i := range v.NumField() {
+			scribbleOn(v.Field(i))
+		}
+	default:
+		panic("elements of this kind are not known: " + v.Type().String())
 	}
 }
 
