@@ -34,11 +34,6 @@ func withSpare[T any](list []T, spare T) []T {
 	return whole[:len(list):len(whole)]
 }
 
-// whole returns a copy of a list and of all its capacity.
-func whole[T any](list []T) []T {
-	return slices.Clone(list[:cap(list)])
-}
-
 // sampleBytes are lists of bytes, the last one of which is too long.
 func sampleBytes() [][]byte {
 	return [][]byte{

@@ -72,7 +72,7 @@ func (c scanCall) check(t *testing.T, data []byte, s string, a, b int) {
 	t.Helper()
 	checkTotal(t, func() string {
 		return fmt.Sprintf("%s of %d bytes, %.40q, %d, %d", c.name, len(data), s, a, b)
-	}, data, 0, 255, func(data []byte) answer {
+	}, withSpare(data, 0), withSpare(data, 255), func(data []byte) answer {
 		return c.call(data, s, a, b)
 	})
 }

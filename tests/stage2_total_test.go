@@ -74,7 +74,7 @@ func numberCalls() []numberCall {
 func (c numberCall) check(t *testing.T, x numberArgs) {
 	t.Helper()
 	name := func() string { return fmt.Sprintf("%s of %.200v", c.name, x) }
-	checkTotal(t, name, x.list, 0, -1, func(list []int) answer {
+	checkTotal(t, name, withSpare(x.list, 0), withSpare(x.list, -1), func(list []int) answer {
 		y := x
 		y.list = list
 		return c.call(y)

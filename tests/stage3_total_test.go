@@ -72,8 +72,9 @@ func checkAllTokens(t *testing.T, x tokenArgs) {
 	t.Helper()
 	for _, c := range tokenCalls() {
 		name := func() string { return fmt.Sprintf("%s of %.200v", c.name, x) }
-		spare, other := impl.Token{}, impl.Token{Kind: impl.TkSign, At: 1, Text: ";"}
-		checkTotal(t, name, x.list, spare, other, func(list []impl.Token) answer {
+		first := withSpare(x.list, impl.Token{})
+		second := withSpare(x.list, impl.Token{Kind: impl.TkSign, At: 1, Text: ";"})
+		checkTotal(t, name, first, second, func(list []impl.Token) answer {
 			y := x
 			y.list = list
 			return c.call(y)

@@ -2,7 +2,6 @@ package tests
 
 import (
 	"reflect"
-	"slices"
 	"testing"
 )
 
@@ -12,75 +11,115 @@ type answer struct {
 	ok      bool
 }
 
-// isZero reports whether a result is the zero value of its type, or an empty slice, which is the same value as nil.
+// isZero reports whether a result is the zero value of its type, where an empty slice is the same value as nil.
 func isZero(result any) bool {
-	v := reflect.ValueOf(result)
-	return v.IsZero() || v.Kind() == reflect.Slice && v.Len() == 0
+	return copied(reflect.ValueOf(result), reflect.Value.Len).IsZero()
 }
 
 func (a answer) equals(b answer) bool {
-	for i, result := range a.results {
-		if !(isZero(result) && isZero(b.results[i])) && !reflect.DeepEqual(result, b.results[i]) {
-			return false
-		}
-	}
-	return a.ok == b.ok
-}
-
-// listsIn calls a function with each result that is a list, and its index.
-func (a answer) listsIn(use func(i int, list reflect.Value)) {
-	for i, result := range a.results {
-		if v := reflect.ValueOf(result); v.Kind() == reflect.Slice {
-			use(i, v)
-		}
-	}
+	return reflect.DeepEqual(a.kept(), b.kept())
 }
 
 // kept returns the answer with copies of its lists.
 func (a answer) kept() answer {
-	results := slices.Clone(a.results)
-	a.listsIn(func(i int, list reflect.Value) {
-		results[i] = reflect.AppendSlice(reflect.MakeSlice(list.Type(), 0, list.Len()), list).Interface()
-	})
+	results := make([]any, len(a.results))
+	for i, result := range a.results {
+		results[i] = copied(reflect.ValueOf(result), reflect.Value.Len).Interface()
+	}
 	return answer{results, a.ok}
 }
 
-// scribble changes all elements of the results, up to their capacity.
+// scribble changes all elements of the lists in the results, up to their capacity.
 func (a answer) scribble() {
-	a.listsIn(func(_ int, list reflect.Value) {
-		for i := range list.Cap() {
-			scribbleOn(list.Slice(0, list.Cap()).Index(i))
-		}
-	})
+	for _, result := range a.results {
+		scribbleOn(reflect.ValueOf(result))
+	}
 }
 
-// scribbleOn changes an element of a list.
+// scribbleOn changes all elements of the lists in a value, up to their capacity, and the value itself if it is an element of a list.
 func scribbleOn(v reflect.Value) {
 	switch v.Kind() {
-	case reflect.Uint8:
-		v.SetUint(v.Uint() ^ 0x5a)
-	case reflect.Int:
-		v.SetInt(v.Int() ^ 0x5a)
-	case reflect.String:
-		v.SetString(v.String() + "scribble")
+	case reflect.Slice:
+		for i := range v.Cap() {
+			scribbleOn(v.Slice(0, v.Cap()).Index(i))
+		}
 	case reflect.Struct:
 		for i := range v.NumField() {
 			scribbleOn(v.Field(i))
 		}
+	case reflect.Uint8:
+		if v.CanSet() {
+			v.SetUint(v.Uint() ^ 0x5a)
+		}
+	case reflect.Int:
+		if v.CanSet() {
+			v.SetInt(v.Int() ^ 0x5a)
+		}
+	case reflect.String:
+		if v.CanSet() {
+			v.SetString(v.String() + "scribble")
+		}
+	case reflect.Bool:
+		if v.CanSet() {
+			v.SetBool(!v.Bool())
+		}
 	default:
-		panic("elements of this kind are not known: " + v.Type().String())
+		panic("values of this kind are not known: " + v.Type().String())
 	}
 }
 
-// checkTotal checks what promise 33 and the conventions say of every call, with one that gets a list in front of one spare element or another.
-func checkTotal[T any](t *testing.T, name func() string, list []T, spare, other T, call func(list []T) answer) {
+// copied returns a copy of a value and of all lists in it, as far as a function says. Empty lists become nil.
+func copied(v reflect.Value, size func(list reflect.Value) int) reflect.Value {
+	if !holdsLists(v.Type()) {
+		return v
+	}
+	fresh := reflect.New(v.Type()).Elem()
+	if v.Kind() == reflect.Struct {
+		for i := range v.NumField() {
+			fresh.Field(i).Set(copied(v.Field(i), size))
+		}
+		return fresh
+	}
+	count := size(v)
+	if count == 0 {
+		return fresh
+	}
+	fresh.Set(reflect.MakeSlice(v.Type(), count, count))
+	reflect.Copy(fresh, v.Slice(0, count))
+	if holdsLists(v.Type().Elem()) {
+		for i := range count {
+			fresh.Index(i).Set(copied(fresh.Index(i), size))
+		}
+	}
+	return fresh
+}
+
+// holdsLists reports whether values of a type are lists or have lists in them.
+func holdsLists(t reflect.Type) bool {
+	if t.Kind() != reflect.Struct {
+		return t.Kind() == reflect.Slice
+	}
+	for i := range t.NumField() {
+		if holdsLists(t.Field(i).Type) {
+			return true
+		}
+	}
+	return false
+}
+
+// whole returns a copy of an argument and of all the capacity of its lists.
+func whole(argument any) any {
+	return copied(reflect.ValueOf(argument), reflect.Value.Cap).Interface()
+}
+
+// checkTotal checks what promise 33 and the conventions say of every call, with one that gets an argument, and the same one with other elements in the spare capacity of its lists.
+func checkTotal[T any](t *testing.T, name func() string, first, second T, call func(x T) answer) {
 	t.Helper()
 	defer func() {
 		if fault := recover(); fault != nil {
 			t.Fatalf("%s panics: %v", name(), fault)
 		}
 	}()
-	first := withSpare(list, spare)
 	before := whole(first)
 	got := call(first)
 	if !reflect.DeepEqual(whole(first), before) {
@@ -92,7 +131,7 @@ func checkTotal[T any](t *testing.T, name func() string, list []T, spare, other 
 		}
 	}
 	want := got.kept()
-	if again := call(withSpare(list, other)); !again.equals(want) {
+	if again := call(second); !again.equals(want) {
 		t.Fatalf("%s depends on more than its arguments: %v, %v", name(), want, again)
 	}
 	got.scribble()
