@@ -28,10 +28,6 @@ var keys = []string{
 // kindNames are what the lists of tokens in these tests call the kinds.
 var kindNames = []string{"none", "key", "name", "number", "sign"}
 
-func tokenFault(kind, at int) impl.Fault {
-	return impl.Fault{Kind: kind, At: at}
-}
-
 // slowTokenAt finds a token by regular expressions, and its number by those of chapter 2.
 func slowTokenAt(s string, at int) (impl.Token, int, impl.Fault) {
 	start := at + len(spaceForm.FindString(s[at:]))
@@ -39,7 +35,7 @@ func slowTokenAt(s string, at int) (impl.Token, int, impl.Fault) {
 		return impl.Token{}, start, impl.Fault{}
 	}
 	fault := func(kind int) (impl.Token, int, impl.Fault) {
-		return impl.Token{}, start, tokenFault(kind, start)
+		return impl.Token{}, start, faultAt(kind, start)
 	}
 	token := func(kind int, text string, value int) (impl.Token, int, impl.Fault) {
 		return impl.Token{Kind: kind, At: start, Text: text, Value: value}, start + len(text), impl.Fault{}
@@ -79,7 +75,7 @@ func slowTokensOf(s string) ([]impl.Token, impl.Fault) {
 			return tokens, impl.Fault{}
 		}
 		if len(tokens) == 600 {
-			return nil, tokenFault(impl.ErCount, token.At)
+			return nil, faultAt(impl.ErCount, token.At)
 		}
 		tokens = append(tokens, token)
 		at = end
@@ -332,7 +328,7 @@ func TestTokenAt(t *testing.T) {
 		{"a -> 2k", 0, impl.Token{Kind: impl.TkName, At: 0, Text: "a"}, 1, impl.Fault{}},
 		{"a -> 2k", 4, impl.Token{Kind: impl.TkNumber, At: 5, Text: "2k", Value: 2000}, 7, impl.Fault{}},
 		{"a -> 2k", 7, impl.Token{}, 7, impl.Fault{}},
-		{"a -> 2k", 3, impl.Token{}, 3, tokenFault(impl.ErByte, 3)},
+		{"a -> 2k", 3, impl.Token{}, 3, faultAt(impl.ErByte, 3)},
 		{"a -> 2k", 6, impl.Token{Kind: impl.TkName, At: 6, Text: "k"}, 7, impl.Fault{}},
 		{"", 0, impl.Token{}, 0, impl.Fault{}},
 		{"  ", 1, impl.Token{}, 2, impl.Fault{}},
@@ -342,44 +338,44 @@ func TestTokenAt(t *testing.T) {
 		{"a\\\n", 1, impl.Token{}, 3, impl.Fault{}},
 		{"\\\nrate", 0, impl.Token{Kind: impl.TkKey, At: 2, Text: "rate"}, 6, impl.Fault{}},
 		{"ra\\\nte", 0, impl.Token{Kind: impl.TkName, At: 0, Text: "ra"}, 2, impl.Fault{}}, // space ends a word
-		{" \\", 0, impl.Token{}, 1, tokenFault(impl.ErByte, 1)},
-		{"\\a", 0, impl.Token{}, 0, tokenFault(impl.ErByte, 0)},
-		{" \\\r\n", 0, impl.Token{}, 1, tokenFault(impl.ErByte, 1)},
-		{"# \x00", 0, impl.Token{}, 2, tokenFault(impl.ErByte, 2)},
+		{" \\", 0, impl.Token{}, 1, faultAt(impl.ErByte, 1)},
+		{"\\a", 0, impl.Token{}, 0, faultAt(impl.ErByte, 0)},
+		{" \\\r\n", 0, impl.Token{}, 1, faultAt(impl.ErByte, 1)},
+		{"# \x00", 0, impl.Token{}, 2, faultAt(impl.ErByte, 2)},
 		{"rate", 0, impl.Token{Kind: impl.TkKey, At: 0, Text: "rate"}, 4, impl.Fault{}},
 		{"rates", 0, impl.Token{Kind: impl.TkName, At: 0, Text: "rates"}, 5, impl.Fault{}},
 		{"rat", 0, impl.Token{Kind: impl.TkName, At: 0, Text: "rat"}, 3, impl.Fault{}},
 		{"rate{", 0, impl.Token{Kind: impl.TkKey, At: 0, Text: "rate"}, 4, impl.Fault{}},
 		{"rateB", 0, impl.Token{Kind: impl.TkKey, At: 0, Text: "rate"}, 4, impl.Fault{}},
 		{"twelveletter", 0, impl.Token{Kind: impl.TkName, At: 0, Text: "twelveletter"}, 12, impl.Fault{}},
-		{"thirteenmarks", 0, impl.Token{}, 0, tokenFault(impl.ErName, 0)},
+		{"thirteenmarks", 0, impl.Token{}, 0, faultAt(impl.ErName, 0)},
 		{"thirteenmarks", 1, impl.Token{Kind: impl.TkName, At: 1, Text: "hirteenmarks"}, 13, impl.Fault{}},
-		{" a1", 0, impl.Token{}, 1, tokenFault(impl.ErName, 1)},
-		{"rate1", 0, impl.Token{}, 0, tokenFault(impl.ErName, 0)},
-		{"elevenmarks1", 0, impl.Token{}, 0, tokenFault(impl.ErName, 0)},
-		{"x0x1f", 0, impl.Token{}, 0, tokenFault(impl.ErName, 0)},
-		{"A", 0, impl.Token{}, 0, tokenFault(impl.ErByte, 0)},
-		{"a_b", 1, impl.Token{}, 1, tokenFault(impl.ErByte, 1)},
-		{"\u00e9", 0, impl.Token{}, 0, tokenFault(impl.ErByte, 0)},
-		{"\u00e9", 1, impl.Token{}, 1, tokenFault(impl.ErByte, 1)},
-		{"\u0661", 0, impl.Token{}, 0, tokenFault(impl.ErByte, 0)},
-		{"\u0161", 0, impl.Token{}, 0, tokenFault(impl.ErByte, 0)},
+		{" a1", 0, impl.Token{}, 1, faultAt(impl.ErName, 1)},
+		{"rate1", 0, impl.Token{}, 0, faultAt(impl.ErName, 0)},
+		{"elevenmarks1", 0, impl.Token{}, 0, faultAt(impl.ErName, 0)},
+		{"x0x1f", 0, impl.Token{}, 0, faultAt(impl.ErName, 0)},
+		{"A", 0, impl.Token{}, 0, faultAt(impl.ErByte, 0)},
+		{"a_b", 1, impl.Token{}, 1, faultAt(impl.ErByte, 1)},
+		{"\u00e9", 0, impl.Token{}, 0, faultAt(impl.ErByte, 0)},
+		{"\u00e9", 1, impl.Token{}, 1, faultAt(impl.ErByte, 1)},
+		{"\u0661", 0, impl.Token{}, 0, faultAt(impl.ErByte, 0)},
+		{"\u0161", 0, impl.Token{}, 0, faultAt(impl.ErByte, 0)},
 		{"a\u0161", 0, impl.Token{Kind: impl.TkName, At: 0, Text: "a"}, 1, impl.Fault{}},
 		{"0", 0, impl.Token{Kind: impl.TkNumber, At: 0, Text: "0"}, 1, impl.Fault{}},
 		{"0x1f;", 0, impl.Token{Kind: impl.TkNumber, At: 0, Text: "0x1f", Value: 31}, 4, impl.Fault{}},
 		{"0xffff", 0, impl.Token{Kind: impl.TkNumber, At: 0, Text: "0xffff", Value: 65535}, 6, impl.Fault{}},
 		{"1000m", 0, impl.Token{Kind: impl.TkNumber, At: 0, Text: "1000m", Value: 1000000000}, 5, impl.Fault{}},
 		{"1000000000", 0, impl.Token{Kind: impl.TkNumber, At: 0, Text: "1000000000", Value: 1000000000}, 10, impl.Fault{}},
-		{"1000000001", 0, impl.Token{}, 0, tokenFault(impl.ErNumber, 0)},
-		{"1001m", 0, impl.Token{}, 0, tokenFault(impl.ErNumber, 0)},
-		{"0x10000", 0, impl.Token{}, 0, tokenFault(impl.ErNumber, 0)},
-		{"0x", 0, impl.Token{}, 0, tokenFault(impl.ErNumber, 0)},
-		{" 007", 0, impl.Token{}, 1, tokenFault(impl.ErNumber, 1)},
-		{"007", 1, impl.Token{}, 1, tokenFault(impl.ErNumber, 1)},
+		{"1000000001", 0, impl.Token{}, 0, faultAt(impl.ErNumber, 0)},
+		{"1001m", 0, impl.Token{}, 0, faultAt(impl.ErNumber, 0)},
+		{"0x10000", 0, impl.Token{}, 0, faultAt(impl.ErNumber, 0)},
+		{"0x", 0, impl.Token{}, 0, faultAt(impl.ErNumber, 0)},
+		{" 007", 0, impl.Token{}, 1, faultAt(impl.ErNumber, 1)},
+		{"007", 1, impl.Token{}, 1, faultAt(impl.ErNumber, 1)},
 		{"007", 2, impl.Token{Kind: impl.TkNumber, At: 2, Text: "7", Value: 7}, 3, impl.Fault{}},
-		{"2kk", 0, impl.Token{}, 0, tokenFault(impl.ErNumber, 0)},
-		{"2rate", 0, impl.Token{}, 0, tokenFault(impl.ErNumber, 0)},
-		{"0k", 0, impl.Token{}, 0, tokenFault(impl.ErNumber, 0)},
+		{"2kk", 0, impl.Token{}, 0, faultAt(impl.ErNumber, 0)},
+		{"2rate", 0, impl.Token{}, 0, faultAt(impl.ErNumber, 0)},
+		{"0k", 0, impl.Token{}, 0, faultAt(impl.ErNumber, 0)},
 		{"2K", 0, impl.Token{Kind: impl.TkNumber, At: 0, Text: "2", Value: 2}, 1, impl.Fault{}},
 		{"1.5", 0, impl.Token{Kind: impl.TkNumber, At: 0, Text: "1", Value: 1}, 1, impl.Fault{}},
 		{"{}", 0, impl.Token{Kind: impl.TkSign, At: 0, Text: "{"}, 1, impl.Fault{}},
@@ -388,16 +384,16 @@ func TestTokenAt(t *testing.T) {
 		{"/", 0, impl.Token{Kind: impl.TkSign, At: 0, Text: "/"}, 1, impl.Fault{}},
 		{"==", 0, impl.Token{Kind: impl.TkSign, At: 0, Text: "="}, 1, impl.Fault{}},
 		{"->>", 0, impl.Token{Kind: impl.TkSign, At: 0, Text: "->"}, 2, impl.Fault{}},
-		{"-", 0, impl.Token{}, 0, tokenFault(impl.ErByte, 0)},
-		{"-->", 0, impl.Token{}, 0, tokenFault(impl.ErByte, 0)},
-		{"- >", 0, impl.Token{}, 0, tokenFault(impl.ErByte, 0)},
-		{">", 0, impl.Token{}, 0, tokenFault(impl.ErByte, 0)},
-		{"-5", 0, impl.Token{}, 0, tokenFault(impl.ErByte, 0)},
+		{"-", 0, impl.Token{}, 0, faultAt(impl.ErByte, 0)},
+		{"-->", 0, impl.Token{}, 0, faultAt(impl.ErByte, 0)},
+		{"- >", 0, impl.Token{}, 0, faultAt(impl.ErByte, 0)},
+		{">", 0, impl.Token{}, 0, faultAt(impl.ErByte, 0)},
+		{"-5", 0, impl.Token{}, 0, faultAt(impl.ErByte, 0)},
 		{strings.Repeat(" ", 3999) + "a", 0, impl.Token{Kind: impl.TkName, At: 3999, Text: "a"}, 4000, impl.Fault{}},
-		{strings.Repeat(" ", 3999) + "-", 0, impl.Token{}, 3999, tokenFault(impl.ErByte, 3999)},
-		{strings.Repeat("a", 4000), 0, impl.Token{}, 0, tokenFault(impl.ErName, 0)},
+		{strings.Repeat(" ", 3999) + "-", 0, impl.Token{}, 3999, faultAt(impl.ErByte, 3999)},
+		{strings.Repeat("a", 4000), 0, impl.Token{}, 0, faultAt(impl.ErName, 0)},
 		{strings.Repeat("a", 4000), 3988, impl.Token{Kind: impl.TkName, At: 3988, Text: "aaaaaaaaaaaa"}, 4000, impl.Fault{}},
-		{strings.Repeat("9", 4000), 0, impl.Token{}, 0, tokenFault(impl.ErNumber, 0)},
+		{strings.Repeat("9", 4000), 0, impl.Token{}, 0, faultAt(impl.ErNumber, 0)},
 	} {
 		if token, end, fault, ok := impl.TokenAt(c.s, c.at); token != c.token || end != c.end || fault != c.fault || !ok {
 			t.Errorf("TokenAt(%.40q, %d) = %v, %d, %v, %v", c.s, c.at, token, end, fault, ok)
@@ -436,16 +432,16 @@ func TestTokensOf(t *testing.T) {
 		{"a;b{2}c->3/4=d", []string{"a", ";", "b", "{", "2", "}", "c", "->", "3", "/", "4", "=", "d"}, impl.Fault{}},
 		{"a/0x1f", []string{"a", "/", "0x1f"}, impl.Fault{}},
 		{"rate;", []string{"rate", ";"}, impl.Fault{}},
-		{"a 01 -", nil, tokenFault(impl.ErNumber, 2)}, // the first one of two
-		{"a b1 01", nil, tokenFault(impl.ErName, 2)},
-		{"a - b1", nil, tokenFault(impl.ErByte, 2)},
-		{"a b\\", nil, tokenFault(impl.ErByte, 3)},
-		{"a b\\c", nil, tokenFault(impl.ErByte, 3)},
-		{"a # b\x00", nil, tokenFault(impl.ErByte, 5)},
-		{"aB", nil, tokenFault(impl.ErByte, 1)},
-		{"a 3K", nil, tokenFault(impl.ErByte, 3)},
-		{"a thirteenmarks", nil, tokenFault(impl.ErName, 2)},
-		{"\xffa", nil, tokenFault(impl.ErByte, 0)},
+		{"a 01 -", nil, faultAt(impl.ErNumber, 2)}, // the first one of two
+		{"a b1 01", nil, faultAt(impl.ErName, 2)},
+		{"a - b1", nil, faultAt(impl.ErByte, 2)},
+		{"a b\\", nil, faultAt(impl.ErByte, 3)},
+		{"a b\\c", nil, faultAt(impl.ErByte, 3)},
+		{"a # b\x00", nil, faultAt(impl.ErByte, 5)},
+		{"aB", nil, faultAt(impl.ErByte, 1)},
+		{"a 3K", nil, faultAt(impl.ErByte, 3)},
+		{"a thirteenmarks", nil, faultAt(impl.ErName, 2)},
+		{"\xffa", nil, faultAt(impl.ErByte, 0)},
 	} {
 		list, fault, ok := impl.TokensOf(c.s)
 		var texts []string
@@ -473,15 +469,15 @@ func TestTokensOfManyTokens(t *testing.T) {
 		{strings.Repeat(";", 600), 600, impl.Fault{}},
 		{strings.Repeat("a ", 600), 600, impl.Fault{}},
 		{strings.Repeat("a ", 600) + " # a a", 600, impl.Fault{}},
-		{strings.Repeat(";", 601), 0, tokenFault(impl.ErCount, 600)},
-		{strings.Repeat("a ", 600) + "# a\n b", 0, tokenFault(impl.ErCount, 1205)},
-		{strings.Repeat(";", 4000), 0, tokenFault(impl.ErCount, 600)},
-		{strings.Repeat(";", 600) + "-", 0, tokenFault(impl.ErByte, 600)}, // no more than 600 tokens before it
-		{strings.Repeat(";", 600) + " 01", 0, tokenFault(impl.ErNumber, 601)},
-		{strings.Repeat(";", 600) + "a1", 0, tokenFault(impl.ErName, 600)},
-		{strings.Repeat(";", 601) + "-", 0, tokenFault(impl.ErCount, 600)},
-		{strings.Repeat(";", 601) + "01", 0, tokenFault(impl.ErCount, 600)},
-		{strings.Repeat(";", 599) + "-;;;", 0, tokenFault(impl.ErByte, 599)},
+		{strings.Repeat(";", 601), 0, faultAt(impl.ErCount, 600)},
+		{strings.Repeat("a ", 600) + "# a\n b", 0, faultAt(impl.ErCount, 1205)},
+		{strings.Repeat(";", 4000), 0, faultAt(impl.ErCount, 600)},
+		{strings.Repeat(";", 600) + "-", 0, faultAt(impl.ErByte, 600)}, // no more than 600 tokens before it
+		{strings.Repeat(";", 600) + " 01", 0, faultAt(impl.ErNumber, 601)},
+		{strings.Repeat(";", 600) + "a1", 0, faultAt(impl.ErName, 600)},
+		{strings.Repeat(";", 601) + "-", 0, faultAt(impl.ErCount, 600)},
+		{strings.Repeat(";", 601) + "01", 0, faultAt(impl.ErCount, 600)},
+		{strings.Repeat(";", 599) + "-;;;", 0, faultAt(impl.ErByte, 599)},
 		{strings.Repeat(" ", 3400) + strings.Repeat(";", 600), 600, impl.Fault{}},
 	} {
 		if list, fault, ok := impl.TokensOf(c.s); len(list) != c.count || fault != c.fault || !ok {
